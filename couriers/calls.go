@@ -25,11 +25,29 @@ func (c *Client) launch(x *call) []api.Action {
 	c.launched++
 	x.had++
 	c.attempts[c.launched] = attempt{call: x.number, launched: c.now}
+	c.setHedge(x)
 	return []api.Action{{Kind: api.Launch, Call: x.number, Attempt: c.launched, Left: x.deadline - c.now}}
+}
+
+// setHedge sets the timer for a further attempt beside the one that was just launched, if the call may have one (P5).
+func (c *Client) setHedge(x *call) {
+	if !c.mayHedge(x) {
+		return
+	}
+	if due := c.now + c.measured.Delay(c.config.Rank); due < x.deadline {
+		c.setTimer(hedgeTimer, x.number, due)
+	}
+}
+
+func (c *Client) mayHedge(x *call) bool {
+	enough := c.config.Samples > 0 && c.measured.Count() >= c.config.Samples
+	return x.safe && enough && x.had < c.config.Attempts
 }
 
 // waitOrFail sets the timer for an attempt anew; a call that may have none fails (P6).
 func (c *Client) waitOrFail(x *call, draw uint64) []api.Action {
+	// No attempt is open any more that another could stand beside.
+	c.dropHedge(x.number)
 	wait := c.wait(x.lastWait, draw)
 	if x.had >= c.config.Attempts || c.now+wait >= x.deadline {
 		return c.finish(x, api.Failed, 0)

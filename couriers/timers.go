@@ -7,6 +7,7 @@ type timerKind int
 const (
 	deadlineTimer timerKind = iota + 1
 	waitTimer
+	hedgeTimer
 )
 
 // timer is what is to be done for an open call at a time.
@@ -34,6 +35,10 @@ func (c *Client) dropTimers(call int) {
 	c.timers.Drop(func(t timer) bool { return t.call == call })
 }
 
+func (c *Client) dropHedge(call int) {
+	c.timers.Drop(func(t timer) bool { return t.call == call && t.kind == hedgeTimer })
+}
+
 // ring does what a timer was set for, now that it is due.
 func (c *Client) ring(t timer) []api.Action {
 	x := c.calls[t.call]
@@ -42,6 +47,8 @@ func (c *Client) ring(t timer) []api.Action {
 		return c.finish(x, api.Late, 0)
 	case c.units.Take(c.config.Cost):
 		return c.launch(x)
+	case t.kind == hedgeTimer:
+		return nil
 	}
 	return c.finish(x, api.Failed, 0)
 }

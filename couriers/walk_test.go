@@ -23,6 +23,27 @@ func rich() api.Config {
 	return api.Config{Deposit: 100, Cost: 1, Cap: 1000, Window: 10000, Attempts: 6, Flight: 8, Base: 5, Most: 20, Rank: 95, Samples: 0}
 }
 
+// hedging is rich, and sends second attempts when one time was measured.
+func hedging() api.Config {
+	c := rich()
+	c.Rank, c.Samples = 50, 1
+	return c
+}
+
+// measured starts where these times were measured, one behind another: it is their sum now, and each had an attempt of a call that is not safe.
+func measured(t *testing.T, c api.Config, times ...int) walk {
+	t.Helper()
+	w := start(t, c)
+	now := 0
+	for i, time := range times {
+		w.does(submitOnce(-1, 10000), launch(-1, i+1, 10000))
+		now += time
+		w.does(to(now))
+		w.does(ok(i+1, 0), done(-1, 0))
+	}
+	return w
+}
+
 func start(t *testing.T, c api.Config) walk {
 	t.Helper()
 	client, errno := New(c)

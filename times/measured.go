@@ -21,3 +21,11 @@ func (m *Measured) Add(time int) {
 
 // Count is how many times are kept.
 func (m *Measured) Count() int { return len(m.last) }
+
+// Delay is how long an attempt may last before another is sent beside it: of all times in order the one at rank of a hundred is taken, and the greatest number of its bucket is told. There must be a time, and rank is 1 to 100.
+func (m *Measured) Delay(rank int) int {
+	rising := slices.Sorted(slices.Values(m.last))
+	place := (len(rising)*rank + 99) / 100
+	_, greatest := Bucket(rising[place-1])
+	return greatest
+}
